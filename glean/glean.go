@@ -1,0 +1,62 @@
+// Package glean: workers that share out a tree of tasks: see DOC.md.
+package glean
+
+import (
+	"glean/api"
+	"glean/tree"
+	"glean/values"
+)
+
+// Run is workers, and the messages between them.
+type Run struct{}
+
+// Unfold tells what all tasks of a program come to (P3).
+func Unfold(p api.Program) ([]api.Value, api.Errno) {
+	if !tree.IsProgram(p) {
+		return nil, api.ErrProgram
+	}
+	all := values.Set{}
+	for t := range tree.Tasks(p) {
+		if len(all) == api.MaxTasks {
+			return nil, api.ErrLarge
+		}
+		all.Keep(tree.Value(p, t))
+	}
+	return all.List(), api.OK
+}
+
+// New makes a run (P4).
+func New(c api.Config, p api.Program) (*Run, api.Errno) { return nil, api.OK }
+
+// Work lets a worker do a task (P5).
+func (r *Run) Work(w int) api.Errno { return api.OK }
+
+// Steal lets a worker ask another one for a task (P6).
+func (r *Run) Steal(w int, victim int) api.Errno { return api.OK }
+
+// Tasks tells a worker's tasks (P5).
+func (r *Run) Tasks(w int) ([]api.Task, api.Errno) { return nil, api.OK }
+
+// Messages tells all messages on their way (P7).
+func (r *Run) Messages() ([]api.Message, api.Errno) { return nil, api.OK }
+
+// Deliver lets a message arrive (P8).
+func (r *Run) Deliver(i int) api.Errno { return api.OK }
+
+// Drop loses a message (P7).
+func (r *Run) Drop(i int) api.Errno { return api.OK }
+
+// Twice doubles a message (P7).
+func (r *Run) Twice(i int) api.Errno { return api.OK }
+
+// Tick lets a worker send again what is not known to have come (P7).
+func (r *Run) Tick(w int) api.Errno { return api.OK }
+
+// Pass lets a worker hand the token on (P9).
+func (r *Run) Pass(w int) api.Errno { return api.OK }
+
+// Check lets worker 0 find out whether all is done (P9, P10).
+func (r *Run) Check() api.Errno { return api.OK }
+
+// Announced tells what was announced (P11).
+func (r *Run) Announced() ([]api.Value, bool, api.Errno) { return nil, false, api.OK }
