@@ -2,13 +2,22 @@
 package glean
 
 import (
+	"slices"
+
 	"glean/api"
+	"glean/post"
 	"glean/tree"
 	"glean/values"
 )
 
 // Run is workers, and the messages between them.
-type Run struct{}
+type Run struct {
+	program  api.Program
+	workers  []worker
+	post     post.List
+	kept     values.Set // by worker 0
+	overflow bool       // a worker had no room: nothing changes any more
+}
 
 // Unfold tells what all tasks of a program come to (P3).
 func Unfold(p api.Program) ([]api.Value, api.Errno) {
@@ -26,16 +35,32 @@ func Unfold(p api.Program) ([]api.Value, api.Errno) {
 }
 
 // New makes a run (P4).
-func New(c api.Config, p api.Program) (*Run, api.Errno) { return nil, api.OK }
+func New(c api.Config, p api.Program) (*Run, api.Errno) {
+	if !isConfig(c) {
+		return nil, api.ErrConfig
+	}
+	if _, e := Unfold(p); e != api.OK {
+		return nil, e
+	}
+	r := &Run{program: tree.Copy(p), workers: newWorkers(c, tree.First(p)), kept: values.Set{}}
+	return r, api.OK
+}
 
 // Work lets a worker do a task (P5).
-func (r *Run) Work(w int) api.Errno { return api.OK }
+func (r *Run) Work(w int) api.Errno {
+	return r.change(r.isWorker(w), r.hasTask(w), r.doYoungest(w))
+}
 
 // Steal lets a worker ask another one for a task (P6).
 func (r *Run) Steal(w int, victim int) api.Errno { return api.OK }
 
 // Tasks tells a worker's tasks (P5).
-func (r *Run) Tasks(w int) ([]api.Task, api.Errno) { return nil, api.OK }
+func (r *Run) Tasks(w int) ([]api.Task, api.Errno) {
+	if e := r.ask(r.isWorker(w)); e != api.OK {
+		return nil, e
+	}
+	return slices.Collect(r.workers[w].tasks.All()), api.OK
+}
 
 // Messages tells all messages on their way (P7).
 func (r *Run) Messages() ([]api.Message, api.Errno) { return nil, api.OK }

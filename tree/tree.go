@@ -3,6 +3,7 @@ package tree
 
 import (
 	"iter"
+	"slices"
 	"strconv"
 
 	"glean/api"
@@ -42,6 +43,15 @@ func isNumber(kind, kinds int) bool {
 
 func within(n, low, high int) bool {
 	return low <= n && n <= high
+}
+
+// Copy is a program that shares no list with p.
+func Copy(p api.Program) api.Program {
+	p.Kinds = slices.Clone(p.Kinds)
+	for i := range p.Kinds {
+		p.Kinds[i].Kids = slices.Clone(p.Kinds[i].Kids)
+	}
+	return p
 }
 
 // First is the task that a program begins with.

@@ -2,6 +2,7 @@ package tree
 
 import (
 	"math"
+	"reflect"
 	"slices"
 	"testing"
 
@@ -150,5 +151,21 @@ func TestValue(t *testing.T) {
 		if got := Value(p, c.of); got != (api.Value{ID: c.of.ID, V: c.want}) {
 			t.Errorf("value of %v: %v, want %d", c.of, got, c.want)
 		}
+	}
+}
+
+func TestCopy(t *testing.T) {
+	p := full()
+	p.Kinds[1].Kids = nil
+	c := Copy(p)
+	if !reflect.DeepEqual(c, p) {
+		t.Errorf("copy of %v: %v", p, c)
+	}
+	clear(p.Kinds[0].Kids)
+	clear(p.Kinds)
+	want := full()
+	want.Kinds[1].Kids = nil
+	if !reflect.DeepEqual(c, want) {
+		t.Errorf("changed with what was copied: %v", c)
 	}
 }

@@ -1,0 +1,68 @@
+package glean
+
+import (
+	"glean/api"
+	"glean/link"
+	"glean/tasks"
+)
+
+// worker is one of a run's.
+type worker struct {
+	tasks *tasks.List
+	links []*link.Out // by the numbers of the workers at the other ends; nil at its own
+	sent  int         // work messages
+}
+
+// isConfig tells whether there may be a run of these numbers.
+func isConfig(c api.Config) bool {
+	workers := 2 <= c.Workers && c.Workers <= api.MaxWorkers
+	room := 1 <= c.Room && c.Room <= api.MaxRoom
+	way := c.Way == api.Ring || c.Way == api.Waves
+	return workers && room && way
+}
+
+// newWorkers are those that a run begins with: the first task is with worker 0.
+func newWorkers(c api.Config, first api.Task) []worker {
+	all := make([]worker, c.Workers)
+	for w := range all {
+		all[w] = worker{tasks: tasks.New(c.Room), links: newLinks(w, c.Workers)}
+	}
+	all[0].tasks = tasks.New(c.Room, first)
+	return all
+}
+
+// newLinks are the links that begin at worker w.
+func newLinks(w, workers int) []*link.Out {
+	all := make([]*link.Out, workers)
+	for other := range all {
+		if other != w {
+			all[other] = link.NewOut()
+		}
+	}
+	return all
+}
+
+// bring gets values that worker w found to worker 0.
+func (r *Run) bring(w int, vs ...api.Value) {
+	if w == 0 {
+		r.kept.Keep(vs...)
+		return
+	}
+	for _, v := range vs {
+		r.sendWork(w, 0, api.Message{Kind: api.Result, V: v})
+	}
+}
+
+// sendWork sends work messages from one worker to another, and counts them.
+func (r *Run) sendWork(from, to int, things ...api.Message) {
+	r.workers[from].sent += len(things)
+	r.send(from, to, things...)
+}
+
+// send sends things on the link from one worker to another.
+func (r *Run) send(from, to int, things ...api.Message) {
+	for _, m := range things {
+		m.From, m.To = from, to
+		r.post.Put(r.workers[from].links[to].Send(m))
+	}
+}
