@@ -52,7 +52,9 @@ func (r *Run) Work(w int) api.Errno {
 }
 
 // Steal lets a worker ask another one for a task (P6).
-func (r *Run) Steal(w int, victim int) api.Errno { return api.OK }
+func (r *Run) Steal(w int, victim int) api.Errno {
+	return r.change(r.isWorker(w), r.isWorker(victim), areTwo(w, victim), r.isIdle(w), r.hasAnswer(w), r.sendRequest(w, victim))
+}
 
 // Tasks tells a worker's tasks (P5).
 func (r *Run) Tasks(w int) ([]api.Task, api.Errno) {
@@ -63,19 +65,30 @@ func (r *Run) Tasks(w int) ([]api.Task, api.Errno) {
 }
 
 // Messages tells all messages on their way (P7).
-func (r *Run) Messages() ([]api.Message, api.Errno) { return nil, api.OK }
+func (r *Run) Messages() ([]api.Message, api.Errno) {
+	if e := r.ask(); e != api.OK {
+		return nil, e
+	}
+	return r.post.Copy(), api.OK
+}
 
 // Deliver lets a message arrive (P8).
 func (r *Run) Deliver(i int) api.Errno { return api.OK }
 
 // Drop loses a message (P7).
-func (r *Run) Drop(i int) api.Errno { return api.OK }
+func (r *Run) Drop(i int) api.Errno {
+	return r.change(r.isMessage(i), r.drop(i))
+}
 
 // Twice doubles a message (P7).
-func (r *Run) Twice(i int) api.Errno { return api.OK }
+func (r *Run) Twice(i int) api.Errno {
+	return r.change(r.isMessage(i), r.double(i))
+}
 
 // Tick lets a worker send again what is not known to have come (P7).
-func (r *Run) Tick(w int) api.Errno { return api.OK }
+func (r *Run) Tick(w int) api.Errno {
+	return r.change(r.isWorker(w), r.sendAgain(w))
+}
 
 // Pass lets a worker hand the token on (P9).
 func (r *Run) Pass(w int) api.Errno { return api.OK }

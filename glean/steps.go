@@ -59,6 +59,46 @@ func (r *Run) hasTask(w int) step {
 	}
 }
 
+// areTwo refuses a worker that would have to do with itself.
+func areTwo(w, other int) step {
+	return func() api.Errno {
+		if w == other {
+			return api.ErrWorker
+		}
+		return api.OK
+	}
+}
+
+// isIdle refuses a worker that has a task.
+func (r *Run) isIdle(w int) step {
+	return func() api.Errno {
+		if !r.workers[w].tasks.Idle() {
+			return api.ErrBusy
+		}
+		return api.OK
+	}
+}
+
+// hasAnswer refuses a worker that waits for an answer.
+func (r *Run) hasAnswer(w int) step {
+	return func() api.Errno {
+		if r.workers[w].asked {
+			return api.ErrBusy
+		}
+		return api.OK
+	}
+}
+
+// isMessage refuses a number that no message has.
+func (r *Run) isMessage(i int) step {
+	return func() api.Errno {
+		if !r.post.Has(i) {
+			return api.ErrMessage
+		}
+		return api.OK
+	}
+}
+
 // doYoungest lets a worker that isn't idle do its youngest task.
 func (r *Run) doYoungest(w int) step {
 	return func() api.Errno {
@@ -69,6 +109,41 @@ func (r *Run) doYoungest(w int) step {
 			return api.ErrOverflow
 		}
 		r.bring(w, tree.Value(r.program, t))
+		return api.OK
+	}
+}
+
+// sendRequest lets a worker ask another one for a task.
+func (r *Run) sendRequest(w, victim int) step {
+	return func() api.Errno {
+		r.workers[w].asked = true
+		r.send(w, victim, api.Message{Kind: api.Request})
+		return api.OK
+	}
+}
+
+// drop loses a message that there is.
+func (r *Run) drop(i int) step {
+	return func() api.Errno {
+		r.post.Drop(i)
+		return api.OK
+	}
+}
+
+// double puts one just like a message that there is on its way.
+func (r *Run) double(i int) step {
+	return func() api.Errno {
+		r.post.Put(r.post[i])
+		return api.OK
+	}
+}
+
+// sendAgain puts on its way what a worker has to send again.
+func (r *Run) sendAgain(w int) step {
+	return func() api.Errno {
+		for m := range r.workers[w].again() {
+			r.post.Put(m)
+		}
 		return api.OK
 	}
 }

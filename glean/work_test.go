@@ -315,85 +315,17 @@ func TestP2RunsAreApart(t *testing.T) {
 	}
 }
 
-// shadow says what workers have by the words of P5, in its own way.
-type shadow struct {
-	p     api.Program
-	room  int
-	tasks [][]api.Task
-	kept  map[string]int
-	sent  []api.Message
-	over  bool
-}
-
-func (s *shadow) work(w int) api.Errno {
-	if s.over {
-		return api.ErrOverflow
-	}
-	if w < 0 || w >= len(s.tasks) {
-		return api.ErrWorker
-	}
-	last := len(s.tasks[w]) - 1
-	if last < 0 {
-		return api.ErrIdle
-	}
-	task := s.tasks[w][last]
-	k := s.p.Kinds[task.Kind]
-	next := slices.Clone(s.tasks[w][:last])
-	for i, kid := range k.Kids {
-		if kid.Less <= task.Arg {
-			next = append(next, api.Task{ID: fmt.Sprint(task.ID, i), Kind: kid.Kind, Arg: task.Arg - kid.Less})
-		}
-	}
-	if len(next) > s.room {
-		s.over = true
-		return api.ErrOverflow
-	}
-	s.tasks[w] = next
-	v := api.Value{ID: task.ID, V: k.A*task.Arg + k.B}
-	if w == 0 {
-		s.kept[v.ID] = v.V
-		return api.OK
-	}
-	m := api.Message{From: w, No: 1, Kind: api.Result, V: v}
-	for _, old := range s.sent {
-		if old.From == w {
-			m.No++
-		}
-	}
-	s.sent = append(s.sent, m)
-	return api.OK
-}
-
-// same holds a run against its shadow.
-func (s *shadow) same(r *Run) bool {
-	for w, want := range s.tasks {
-		if l, e := r.Tasks(w); !slices.Equal(l, want) || e != api.OK {
-			return false
-		}
-	}
-	if len(r.kept) != len(s.kept) {
-		return false
-	}
-	for _, v := range r.kept.List() {
-		if old, ok := s.kept[v.ID]; !ok || old != v.V {
-			return false
-		}
-	}
-	return slices.Equal(r.post, s.sent[:min(len(s.sent), api.MaxMessages)])
-}
-
 // Here each worker has some task at first, as if it had been granted one.
 func TestP5ManyRuns(t *testing.T) {
 	number := numbers()
 	seen := map[api.Errno]int{}
 	for range 1500 {
 		p := anyProgram(number, 0)
-		s := &shadow{p: p, room: 1 + number(api.MaxRoom), tasks: make([][]api.Task, 2+number(4)), kept: map[string]int{}}
+		s := newShadow(p, 1+number(api.MaxRoom), 2+number(4))
 		r, e := New(api.Config{Workers: len(s.tasks), Room: s.room, Way: 1 + number(2)}, p)
 		if e != api.OK {
 			continue
 		}
-		s.tasks[0] = []api.Task{{Kind: p.Kind, Arg: p.Arg}}
 		for w := 1; w < len(s.tasks); w++ {
 			task := api.Task{ID: fmt.Sprint(w), Kind: number(len(p.Kinds)), Arg: number(api.MaxArg + 1)}
 			s.tasks[w] = []api.Task{task}

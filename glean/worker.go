@@ -1,6 +1,8 @@
 package glean
 
 import (
+	"iter"
+
 	"glean/api"
 	"glean/link"
 	"glean/tasks"
@@ -11,6 +13,7 @@ type worker struct {
 	tasks *tasks.List
 	links []*link.Out // by the numbers of the workers at the other ends; nil at its own
 	sent  int         // work messages
+	asked bool        // for a task, and no answer has come
 }
 
 // isConfig tells whether there may be a run of these numbers.
@@ -40,6 +43,20 @@ func newLinks(w, workers int) []*link.Out {
 		}
 	}
 	return all
+}
+
+// again tells the messages that a worker has to send again: of each link the oldest thing that isn't known to have come.
+func (w *worker) again() iter.Seq[api.Message] {
+	return func(yield func(api.Message) bool) {
+		for _, l := range w.links {
+			if l == nil {
+				continue
+			}
+			if m, ok := l.Oldest(); ok && !yield(m) {
+				return
+			}
+		}
+	}
 }
 
 // bring gets values that worker w found to worker 0.

@@ -1,7 +1,11 @@
 // Package link: the way from one worker to another.
 package link
 
-import "glean/api"
+import (
+	"iter"
+
+	"glean/api"
+)
 
 // Out is the end of a link at which things are sent.
 type Out struct {
@@ -22,6 +26,14 @@ func (o *Out) Send(thing api.Message) api.Message {
 	return thing
 }
 
+// Oldest is what was sent first of all that isn't known to have come. It answers false if there is nothing.
+func (o *Out) Oldest() (api.Message, bool) {
+	for thing := range o.through(cap(o.open)) {
+		return thing, true
+	}
+	return api.Message{}, false
+}
+
 func (o *Out) keep(thing api.Message) {
 	// A send to a channel without room would wait forever, and no bound is set to what isn't known to have come.
 	if len(o.open) == cap(o.open) {
@@ -31,10 +43,21 @@ func (o *Out) keep(thing api.Message) {
 }
 
 func (o *Out) widen() {
-	wider := make(chan api.Message, 2*cap(o.open))
-	close(o.open)
-	for thing := range o.open {
-		wider <- thing
+	for range o.through(2 * cap(o.open)) {
 	}
-	o.open = wider
+}
+
+// through tells what isn't known to have come, the oldest first. A channel shows what it has only to whoever takes it out, so all of it goes on to a new channel, with the given room. The link is whole again when the loop has ended, not within it.
+func (o *Out) through(room int) iter.Seq[api.Message] {
+	return func(yield func(api.Message) bool) {
+		next := make(chan api.Message, room)
+		close(o.open)
+		wanted := true
+		for thing := range o.open {
+			next <- thing
+			// Whoever breaks off is told no more, but the rest has to go on too.
+			wanted = wanted && yield(thing)
+		}
+		o.open = next
+	}
 }

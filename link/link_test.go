@@ -73,3 +73,89 @@ func TestLinksAreApart(t *testing.T) {
 		t.Error("links share what was sent")
 	}
 }
+
+func TestOldest(t *testing.T) {
+	for _, most := range []int{0, 1, api.Window - 1, api.Window, api.Window + 1, 2*api.Window + 1, 1000} {
+		o := NewOut()
+		for i := range most {
+			o.Send(api.Message{Kind: api.Result, V: api.Value{ID: "0", V: i}})
+		}
+		want := api.Message{No: 1, Kind: api.Result, V: api.Value{ID: "0"}}
+		if most == 0 {
+			want = api.Message{}
+		}
+		for range 3 {
+			if got, ok := o.Oldest(); got != want || ok != (most > 0) {
+				t.Errorf("of %d: %v, %t, want %v", most, got, ok, want)
+			}
+		}
+		l := drain(o)
+		if len(l) != most {
+			t.Errorf("%d of %d are left", len(l), most)
+		}
+		for i, m := range l {
+			if m.No != i+1 || m.V.V != i {
+				t.Errorf("of %d: thing %d: %v", most, i, m)
+			}
+		}
+	}
+}
+
+// The oldest is another one when the first ones are known to have come, and sending goes on behind the others.
+func TestOldestBetweenOthers(t *testing.T) {
+	o := NewOut()
+	taken := 0
+	for i := 1; i <= 100; i++ {
+		if m := o.Send(api.Message{Count: 7 * i}); m.No != i {
+			t.Errorf("sent: %v, want number %d", m, i)
+		}
+		if i%2 == 0 {
+			<-o.open
+			taken++
+		}
+		want := api.Message{No: taken + 1, Count: 7 * (taken + 1)}
+		if got, ok := o.Oldest(); got != want || !ok {
+			t.Errorf("after %d: %v, %t, want %v", i, got, ok, want)
+		}
+	}
+	for len(o.open) > 0 {
+		<-o.open
+	}
+	if got, ok := o.Oldest(); ok || got != (api.Message{}) {
+		t.Errorf("of a link on which all is known to have come: %v, %t", got, ok)
+	}
+	if m := o.Send(api.Message{}); m.No != 101 {
+		t.Errorf("sent: %v, want number 101", m)
+	}
+}
+
+func TestThroughBrokenOff(t *testing.T) {
+	for stop := range 7 {
+		o := NewOut()
+		for i := range 6 {
+			o.Send(api.Message{Count: i})
+		}
+		var told []int
+		for m := range o.through(6) {
+			if len(told) == stop {
+				break
+			}
+			told = append(told, m.No)
+		}
+		if len(told) != min(stop, 6) {
+			t.Errorf("told until %d: %v", stop, told)
+		}
+		l := drain(o)
+		if len(l) != 6 {
+			t.Errorf("broken off at %d: %d are left", stop, len(l))
+		}
+		for i, m := range l {
+			if m != (api.Message{No: i + 1, Count: i}) {
+				t.Errorf("broken off at %d: thing %d: %v", stop, i, m)
+			}
+		}
+		if m := o.Send(api.Message{}); m.No != 7 {
+			t.Errorf("broken off at %d: then sent %v", stop, m)
+		}
+	}
+}

@@ -1,9 +1,13 @@
 // Package post: the messages that are on their way.
 package post
 
-import "glean/api"
+import (
+	"slices"
 
-// List is all messages on their way, in the order in which they were put there.
+	"glean/api"
+)
+
+// List is all messages on their way, in the order in which they were put there. They are numbered from 0 on.
 type List []api.Message
 
 // Put puts messages on their way, at the end. Those that find the list full are lost.
@@ -13,4 +17,19 @@ func (l *List) Put(ms ...api.Message) {
 			*l = append(*l, m)
 		}
 	}
+}
+
+// Has tells whether a message has the number i.
+func (l List) Has(i int) bool {
+	return 0 <= i && i < len(l)
+}
+
+// Drop loses the message with the number i, which the list has.
+func (l *List) Drop(i int) {
+	*l = slices.Delete(*l, i, i+1)
+}
+
+// Copy is all messages, in a list that is the caller's own.
+func (l List) Copy() []api.Message {
+	return slices.Clone(l)
 }

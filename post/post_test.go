@@ -1,6 +1,7 @@
 package post
 
 import (
+	"math"
 	"slices"
 	"testing"
 
@@ -35,5 +36,63 @@ func TestPutBesideOthers(t *testing.T) {
 	l.Put(numbered(api.MaxMessages-2, api.MaxMessages+5)...)
 	if !slices.Equal(l, numbered(0, api.MaxMessages)) {
 		t.Errorf("messages: %v", l)
+	}
+}
+
+func TestHas(t *testing.T) {
+	for _, most := range []int{0, 1, 2, api.MaxMessages - 1, api.MaxMessages} {
+		var l List
+		l.Put(numbered(0, most)...)
+		for _, i := range []int{math.MinInt, -1, 0, 1, most - 2, most - 1, most, most + 1, api.MaxMessages, math.MaxInt} {
+			if got := l.Has(i); got != (i >= 0 && i < most) {
+				t.Errorf("of %d messages, %d: %t", most, i, got)
+			}
+		}
+	}
+}
+
+func TestDrop(t *testing.T) {
+	for _, most := range []int{1, 2, 3, api.MaxMessages} {
+		for i := range most {
+			var l List
+			l.Put(numbered(0, most)...)
+			l.Drop(i)
+			want := append(numbered(0, i), numbered(i+1, most)...)
+			if !slices.Equal(l, want) {
+				t.Errorf("%d of %d dropped: %v", i, most, l)
+			}
+			l.Put(numbered(100, 102)...)
+			want = append(want, numbered(100, 102)...)
+			if !slices.Equal(l, want[:min(len(want), api.MaxMessages)]) {
+				t.Errorf("%d of %d dropped, and two put: %v", i, most, l)
+			}
+		}
+	}
+}
+
+func TestCopy(t *testing.T) {
+	for most := range api.MaxMessages + 1 {
+		var l List
+		l.Put(numbered(0, most)...)
+		c := l.Copy()
+		if !slices.Equal(c, numbered(0, most)) {
+			t.Errorf("copy of %d: %v", most, c)
+		}
+		all := c[:cap(c)]
+		for i := range all {
+			all[i].No = -1
+		}
+		l.Put(api.Message{No: most})
+		if !slices.Equal(l, numbered(0, min(most+1, api.MaxMessages))) {
+			t.Errorf("changed with its copy: %v", l)
+		}
+		for len(l) > 0 {
+			l.Drop(0)
+		}
+		for _, m := range all {
+			if m.No != -1 {
+				t.Errorf("a copy changed with the list: %v", all)
+			}
+		}
 	}
 }
