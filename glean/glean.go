@@ -73,7 +73,9 @@ func (r *Run) Messages() ([]api.Message, api.Errno) {
 }
 
 // Deliver lets a message arrive (P8).
-func (r *Run) Deliver(i int) api.Errno { return api.OK }
+func (r *Run) Deliver(i int) api.Errno {
+	return r.change(r.isMessage(i), r.deliver(i))
+}
 
 // Drop loses a message (P7).
 func (r *Run) Drop(i int) api.Errno {

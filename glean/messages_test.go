@@ -414,12 +414,12 @@ func TestP2MessagesAreApart(t *testing.T) {
 	hasMessages(t, b, request(1, 0, 1), request(1, 0, 1))
 }
 
-// play makes one call at a run and at its shadow, and tells both answers.
-func play(r *Run, s *shadow, number func(below int) int) (call string, got, want api.Errno) {
+// play makes one call at a run and at its shadow, and tells both answers. The greater often is, the more often a message is delivered.
+func play(r *Run, s *shadow, number func(below int) int, often int) (call string, got, want api.Errno) {
 	w := number(len(s.tasks)+2) - 1
 	other := number(len(s.tasks)+2) - 1
 	i := number(len(s.way)+2) - 1
-	switch number(6) {
+	switch number(6 + often) {
 	case 0:
 		return fmt.Sprintf("Work(%d)", w), r.Work(w), s.work(w)
 	case 1:
@@ -428,8 +428,10 @@ func play(r *Run, s *shadow, number func(below int) int) (call string, got, want
 		return fmt.Sprintf("Drop(%d)", i), r.Drop(i), s.drop(i)
 	case 3:
 		return fmt.Sprintf("Twice(%d)", i), r.Twice(i), s.twice(i)
+	case 4, 5:
+		return fmt.Sprintf("Tick(%d)", w), r.Tick(w), s.tick(w)
 	}
-	return fmt.Sprintf("Tick(%d)", w), r.Tick(w), s.tick(w)
+	return fmt.Sprintf("Deliver(%d)", i), r.Deliver(i), s.deliver(i)
 }
 
 // Here some workers have a task at first, as if they had been granted one.
@@ -452,7 +454,7 @@ func TestP7ManyRuns(t *testing.T) {
 			}
 		}
 		for range 300 {
-			call, got, want := play(r, s, number)
+			call, got, want := play(r, s, number, 0)
 			seen[want]++
 			if got != want || !s.same(r) {
 				t.Fatalf("%v, room %d: %s = %d, want %d, and %v", p, s.room, call, got, want, s)

@@ -7,20 +7,24 @@ import (
 	"glean/api"
 )
 
-// shadow says what comes of calls by the words of P5 to P7, in its own way.
+// shadow says what comes of calls by the words of P5 to P8, in its own way.
 type shadow struct {
-	p     api.Program
-	room  int
-	tasks [][]api.Task
-	asked []int // how many Requests a worker has sent: no answer comes
-	kept  map[string]int
-	sent  []api.Message // all that was sent ever
-	way   []api.Message // all that is on its way
-	over  bool
+	p       api.Program
+	room    int
+	tasks   [][]api.Task
+	waits   []bool // for an answer
+	kept    map[string]int
+	sent    []api.Message       // all that was sent ever
+	came    []api.Message       // all that has come ever
+	way     []api.Message       // all that is on its way
+	arrived map[api.Message]int // what has come, or is kept
+	known   map[[2]int]int      // by a link's beginning and end: up to which number it is known to have come
+	over    bool
 }
 
 func newShadow(p api.Program, room, workers int) *shadow {
-	s := &shadow{p: p, room: room, tasks: make([][]api.Task, workers), asked: make([]int, workers), kept: map[string]int{}}
+	s := &shadow{p: p, room: room, tasks: make([][]api.Task, workers), waits: make([]bool, workers)}
+	s.kept, s.arrived, s.known = map[string]int{}, map[api.Message]int{}, map[[2]int]int{}
 	s.tasks[0] = []api.Task{{Kind: p.Kind, Arg: p.Arg}}
 	return s
 }
@@ -84,10 +88,10 @@ func (s *shadow) steal(w, victim int) api.Errno {
 		return api.ErrOverflow
 	case !s.isWorker(w) || !s.isWorker(victim) || w == victim:
 		return api.ErrWorker
-	case len(s.tasks[w]) > 0 || s.asked[w] > 0:
+	case len(s.tasks[w]) > 0 || s.waits[w]:
 		return api.ErrBusy
 	}
-	s.asked[w]++
+	s.waits[w] = true
 	s.send(api.Message{From: w, To: victim, Kind: api.Request})
 	return api.OK
 }
@@ -104,6 +108,77 @@ func (s *shadow) onMessage(i int, do func()) api.Errno {
 	return api.OK
 }
 
+func (s *shadow) deliver(i int) api.Errno {
+	return s.onMessage(i, func() {
+		m := s.way[i]
+		s.way = append(slices.Clone(s.way[:i]), s.way[i+1:]...)
+		if m.Kind == api.Ack {
+			link := [2]int{m.To, m.From}
+			s.known[link] = max(s.known[link], m.No)
+			return
+		}
+		if m.No <= s.upTo(m.From, m.To)+api.Window {
+			s.arrived[m]++
+		}
+		for s.comeNext(m.From, m.To) {
+		}
+		s.put(api.Message{From: m.To, To: m.From, No: s.upTo(m.From, m.To)})
+	})
+}
+
+// upTo is how much has come on a link.
+func (s *shadow) upTo(from, to int) int {
+	return len(on(s.came, from, to))
+}
+
+// on are those of one link.
+func on(all []api.Message, from, to int) []api.Message {
+	return slices.DeleteFunc(slices.Clone(all), func(m api.Message) bool { return m.From != from || m.To != to })
+}
+
+// comeNext lets the next thing of a link come, if it has arrived.
+func (s *shadow) comeNext(from, to int) bool {
+	all, next := on(s.sent, from, to), s.upTo(from, to)
+	if next == len(all) || s.arrived[all[next]] == 0 {
+		return false
+	}
+	m := all[next]
+	s.came = append(s.came, m)
+	switch m.Kind {
+	case api.Request:
+		reply := api.Message{From: to, To: from, Kind: api.Deny}
+		if len(s.tasks[to]) > 0 {
+			reply.Kind, reply.T = api.Grant, s.tasks[to][0]
+			s.tasks[to] = s.tasks[to][1:]
+		}
+		s.send(reply)
+	case api.Grant:
+		s.tasks[to] = append(slices.Clone(s.tasks[to]), m.T)
+		s.waits[to] = false
+	case api.Deny:
+		s.waits[to] = false
+	case api.Result:
+		s.kept[m.V.ID] = m.V.V
+	}
+	return true
+}
+
+// count tells how many of these are work messages from a worker, and how many are to it.
+func count(all []api.Message, w int) (from, to int) {
+	for _, m := range all {
+		if m.Kind != api.Grant && m.Kind != api.Result {
+			continue
+		}
+		if m.From == w {
+			from++
+		}
+		if m.To == w {
+			to++
+		}
+	}
+	return from, to
+}
+
 func (s *shadow) drop(i int) api.Errno {
 	return s.onMessage(i, func() { s.way = append(slices.Clone(s.way[:i]), s.way[i+1:]...) })
 }
@@ -112,7 +187,6 @@ func (s *shadow) twice(i int) api.Errno {
 	return s.onMessage(i, func() { s.put(s.way[i]) })
 }
 
-// tick knows of nothing that it has come, so that the oldest thing of each link is its first one.
 func (s *shadow) tick(w int) api.Errno {
 	switch {
 	case s.over:
@@ -122,7 +196,7 @@ func (s *shadow) tick(w int) api.Errno {
 	}
 	for other := range s.tasks {
 		for _, m := range s.sent {
-			if m.From == w && m.To == other && m.No == 1 {
+			if m.From == w && m.To == other && m.No == s.known[[2]int{w, other}]+1 {
 				s.put(m)
 			}
 		}
@@ -134,6 +208,11 @@ func (s *shadow) tick(w int) api.Errno {
 func (s *shadow) same(r *Run) bool {
 	for w, want := range s.tasks {
 		if l, e := r.Tasks(w); !slices.Equal(l, want) || e != api.OK {
+			return false
+		}
+		sent, _ := count(s.sent, w)
+		_, came := count(s.came, w)
+		if own := r.workers[w]; own.sent != sent || own.came != came || own.black != (came > 0) {
 			return false
 		}
 	}

@@ -122,10 +122,18 @@ func (r *Run) sendRequest(w, victim int) step {
 	}
 }
 
+// deliver takes a message that there is out of the list, and lets it arrive.
+func (r *Run) deliver(i int) step {
+	return func() api.Errno {
+		r.arrive(r.post.Take(i))
+		return api.OK
+	}
+}
+
 // drop loses a message that there is.
 func (r *Run) drop(i int) step {
 	return func() api.Errno {
-		r.post.Drop(i)
+		r.post.Take(i)
 		return api.OK
 	}
 }

@@ -11,9 +11,15 @@ import (
 // worker is one of a run's.
 type worker struct {
 	tasks *tasks.List
-	links []*link.Out // by the numbers of the workers at the other ends; nil at its own
-	sent  int         // work messages
-	asked bool        // for a task, and no answer has come
+	asked bool // for a task, and no answer has come
+
+	// The ends of links that are here, by the numbers of the workers at the other ends; nil at its own.
+	out []*link.Out
+	in  []*link.In
+
+	// Work messages that it sent, and that came to it; black since one came.
+	sent, came int
+	black      bool
 }
 
 // isConfig tells whether there may be a run of these numbers.
@@ -28,18 +34,18 @@ func isConfig(c api.Config) bool {
 func newWorkers(c api.Config, first api.Task) []worker {
 	all := make([]worker, c.Workers)
 	for w := range all {
-		all[w] = worker{tasks: tasks.New(c.Room), links: newLinks(w, c.Workers)}
+		all[w] = worker{tasks: tasks.New(c.Room), out: newEnds(w, c.Workers, link.NewOut), in: newEnds(w, c.Workers, link.NewIn)}
 	}
 	all[0].tasks = tasks.New(c.Room, first)
 	return all
 }
 
-// newLinks are the links that begin at worker w.
-func newLinks(w, workers int) []*link.Out {
-	all := make([]*link.Out, workers)
+// newEnds are worker w's ends of links, all of one sort.
+func newEnds[End any](w, workers int, end func() *End) []*End {
+	all := make([]*End, workers)
 	for other := range all {
 		if other != w {
-			all[other] = link.NewOut()
+			all[other] = end()
 		}
 	}
 	return all
@@ -48,7 +54,7 @@ func newLinks(w, workers int) []*link.Out {
 // again tells the messages that a worker has to send again: of each link the oldest thing that isn't known to have come.
 func (w *worker) again() iter.Seq[api.Message] {
 	return func(yield func(api.Message) bool) {
-		for _, l := range w.links {
+		for _, l := range w.out {
 			if l == nil {
 				continue
 			}
@@ -80,6 +86,6 @@ func (r *Run) sendWork(from, to int, things ...api.Message) {
 func (r *Run) send(from, to int, things ...api.Message) {
 	for _, m := range things {
 		m.From, m.To = from, to
-		r.post.Put(r.workers[from].links[to].Send(m))
+		r.post.Put(r.workers[from].out[to].Send(m))
 	}
 }

@@ -34,6 +34,18 @@ func (o *Out) Oldest() (api.Message, bool) {
 	return api.Message{}, false
 }
 
+// Known takes out all that has numbers up to this one: it is known to have come. An Ack that says less than another one that overtook it finds nothing.
+func (o *Out) Known(no int) {
+	for len(o.open) > 0 && o.first() <= no {
+		<-o.open
+	}
+}
+
+// first is the number of the oldest thing that isn't known to have come, if there is one: the numbers from there on to the last one have no gap.
+func (o *Out) first() int {
+	return o.sent - len(o.open) + 1
+}
+
 func (o *Out) keep(thing api.Message) {
 	// A send to a channel without room would wait forever, and no bound is set to what isn't known to have come.
 	if len(o.open) == cap(o.open) {

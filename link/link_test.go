@@ -159,3 +159,50 @@ func TestThroughBrokenOff(t *testing.T) {
 		}
 	}
 }
+
+// What has numbers up to the one that is told is taken out, nothing else; what was told already, or less, changes nothing.
+func TestKnown(t *testing.T) {
+	for most := range 3 * api.Window {
+		for no := -1; no <= most+1; no++ {
+			for then := -1; then <= most+1; then++ {
+				o := NewOut()
+				for i := range most {
+					o.Send(api.Message{Count: i})
+				}
+				o.Known(no)
+				o.Known(then)
+				first := min(max(no, then, 0), most) + 1
+				want := api.Message{No: first, Count: first - 1}
+				if got, ok := o.Oldest(); ok != (first <= most) || ok && got != want {
+					t.Errorf("%d sent, known up to %d and %d: oldest %v, %t", most, no, then, got, ok)
+				}
+				for _, m := range drain(o) {
+					if m.No != first || m.Count != first-1 {
+						t.Errorf("%d sent, known up to %d and %d: left %v, want number %d", most, no, then, m, first)
+					}
+					first++
+				}
+				if first != most+1 {
+					t.Errorf("%d sent, known up to %d and %d: left up to %d", most, no, then, first-1)
+				}
+			}
+		}
+	}
+}
+
+func TestSendBehindKnown(t *testing.T) {
+	o := NewOut()
+	known := 0
+	for no := 1; no <= 200; no++ {
+		if m := o.Send(api.Message{Count: 3 * no}); m.No != no {
+			t.Errorf("sent: %v, want number %d", m, no)
+		}
+		if no%7 == 0 {
+			known = no - no%5
+			o.Known(known)
+		}
+		if m, ok := o.Oldest(); ok != (known < no) || ok && m != (api.Message{No: known + 1, Count: 3 * (known + 1)}) {
+			t.Errorf("known up to %d of %d: oldest %v, %t", known, no, m, ok)
+		}
+	}
+}

@@ -24,9 +24,11 @@ func (l List) Has(i int) bool {
 	return 0 <= i && i < len(l)
 }
 
-// Drop loses the message with the number i, which the list has.
-func (l *List) Drop(i int) {
+// Take takes the message with the number i, which the list has, out of it.
+func (l *List) Take(i int) api.Message {
+	m := (*l)[i]
 	*l = slices.Delete(*l, i, i+1)
+	return m
 }
 
 // Copy is all messages, in a list that is the caller's own.

@@ -51,20 +51,22 @@ func TestHas(t *testing.T) {
 	}
 }
 
-func TestDrop(t *testing.T) {
+func TestTake(t *testing.T) {
 	for _, most := range []int{1, 2, 3, api.MaxMessages} {
 		for i := range most {
 			var l List
 			l.Put(numbered(0, most)...)
-			l.Drop(i)
+			if m := l.Take(i); m.No != i {
+				t.Errorf("%d of %d taken out: %v", i, most, m)
+			}
 			want := append(numbered(0, i), numbered(i+1, most)...)
 			if !slices.Equal(l, want) {
-				t.Errorf("%d of %d dropped: %v", i, most, l)
+				t.Errorf("%d of %d taken out, left: %v", i, most, l)
 			}
 			l.Put(numbered(100, 102)...)
 			want = append(want, numbered(100, 102)...)
 			if !slices.Equal(l, want[:min(len(want), api.MaxMessages)]) {
-				t.Errorf("%d of %d dropped, and two put: %v", i, most, l)
+				t.Errorf("%d of %d taken out, and two put: %v", i, most, l)
 			}
 		}
 	}
@@ -87,7 +89,7 @@ func TestCopy(t *testing.T) {
 			t.Errorf("changed with its copy: %v", l)
 		}
 		for len(l) > 0 {
-			l.Drop(0)
+			l.Take(0)
 		}
 		for _, m := range all {
 			if m.No != -1 {

@@ -34,6 +34,18 @@ func (l *List) Youngest() api.Task {
 	return l.tasks[len(l.tasks)-1]
 }
 
+// Put puts tasks behind the others.
+func (l *List) Put(ts ...api.Task) {
+	l.tasks = append(l.tasks, ts...)
+}
+
+// TakeOldest takes the task that came first out of a list that is not idle.
+func (l *List) TakeOldest() api.Task {
+	t := l.tasks[0]
+	l.tasks = slices.Delete(l.tasks, 0, 1)
+	return t
+}
+
 // Replace puts children in the place of the youngest task, of a list that is not idle. It answers false, and changes nothing, if there is no room for them.
 func (l *List) Replace(children iter.Seq[api.Task]) bool {
 	others := l.tasks[:len(l.tasks)-1]

@@ -67,6 +67,50 @@ func TestReplace(t *testing.T) {
 	}
 }
 
+func TestPut(t *testing.T) {
+	all := named("a", "b", "c", "d")
+	for before := range 4 {
+		for more := range 4 - before {
+			l := New(9, all[:before]...)
+			l.Put(all[before : before+more]...)
+			if got := slices.Collect(l.All()); !slices.Equal(got, all[:before+more]) {
+				t.Errorf("%d put behind %d: %v", more, before, got)
+			}
+		}
+	}
+}
+
+func TestTakeOldest(t *testing.T) {
+	all := named("a", "b", "c")
+	l := New(3, all...)
+	for i, want := range all {
+		if got := l.TakeOldest(); got != want {
+			t.Errorf("oldest: %v, want %v", got, want)
+		}
+		if got := slices.Collect(l.All()); !slices.Equal(got, all[i+1:]) || l.Idle() != (i == 2) {
+			t.Errorf("left: %v, want %v", got, all[i+1:])
+		}
+	}
+}
+
+// What was given away leaves room.
+func TestRoomBehindTakeOldest(t *testing.T) {
+	l := New(3, named("a", "b", "c")...)
+	if l.Replace(slices.Values(named("x", "y"))) {
+		t.Error("two children beside two tasks, room 3")
+	}
+	l.TakeOldest()
+	if !l.Replace(slices.Values(named("x", "y"))) {
+		t.Error("no room for two children beside one task, room 3")
+	}
+	l.TakeOldest()
+	l.Put(named("z")...)
+	want := append(named("x", "y"), named("z")...)
+	if got := slices.Collect(l.All()); !slices.Equal(got, want) {
+		t.Errorf("tasks: %v, want %v", got, want)
+	}
+}
+
 func TestListIsItsOwn(t *testing.T) {
 	first := named("a", "b", "c")
 	want := slices.Clone(first)
@@ -76,6 +120,8 @@ func TestListIsItsOwn(t *testing.T) {
 		t.Errorf("changed with what it was made of: %v", got)
 	}
 	l.Replace(slices.Values(named("x", "y", "z")))
+	l.Put(named("u", "v")...)
+	l.TakeOldest()
 	if first[1] != want[1] || first[2] != want[2] {
 		t.Errorf("changed what it was made of: %v", first)
 	}
