@@ -31,6 +31,12 @@ func (r *Run) come(things ...api.Message) {
 		case api.Result:
 			here.countCome()
 			r.kept.Keep(m.V)
+		case api.Token:
+			r.takeToken(m)
+		case api.Wave:
+			r.send(m.To, 0, here.report(m.Round))
+		case api.Report:
+			r.rounds.Note(m)
 		}
 	}
 }

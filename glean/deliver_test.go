@@ -635,10 +635,11 @@ func TestP8ManyRuns(t *testing.T) {
 	number := numbers()
 	seen, came := map[api.Errno]int{}, map[int]int{}
 	full := 0
-	for range 400 {
+	for range 600 {
 		p := anyProgram(number, 0)
-		s := newShadow(p, 3+number(api.MaxRoom-2), 2+number(4))
-		r, e := New(api.Config{Workers: len(s.tasks), Room: s.room, Way: 1 + number(2)}, p)
+		c := api.Config{Workers: 2 + number(4), Room: 3 + number(api.MaxRoom-2), Way: 1 + number(2)}
+		s := newShadow(p, c)
+		r, e := New(c, p)
 		if e != api.OK {
 			continue
 		}
@@ -647,7 +648,7 @@ func TestP8ManyRuns(t *testing.T) {
 			call, got, want := play(r, s, number, often)
 			seen[want]++
 			if got != want || !s.same(r) {
-				t.Fatalf("%v, room %d: %s = %d, want %d, and %v", p, s.room, call, got, want, s)
+				t.Fatalf("%v, %v: %s = %d, want %d, and %v", c, p, call, got, want, s)
 			}
 			if len(s.way) == api.MaxMessages {
 				full++
@@ -698,8 +699,9 @@ func TestP8AllComesInTheEnd(t *testing.T) {
 	shared := 0
 	for range 300 {
 		p := anyProgram(number, 0)
-		s := newShadow(p, api.MaxRoom, 2+number(4))
-		r, e := New(api.Config{Workers: len(s.tasks), Room: api.MaxRoom, Way: 1 + number(2)}, p)
+		c := api.Config{Workers: 2 + number(4), Room: api.MaxRoom, Way: 1 + number(2)}
+		s := newShadow(p, c)
+		r, e := New(c, p)
 		if e != api.OK {
 			continue
 		}
@@ -707,7 +709,7 @@ func TestP8AllComesInTheEnd(t *testing.T) {
 		for range 300 {
 			play(r, s, number, often)
 		}
-		if r.overflow {
+		if r.overflow || r.announced {
 			continue
 		}
 		calm(t, r)

@@ -8,15 +8,23 @@ import (
 	"glean/post"
 	"glean/tree"
 	"glean/values"
+	"glean/waves"
 )
 
 // Run is workers, and the messages between them.
 type Run struct {
-	program  api.Program
-	workers  []worker
-	post     post.List
-	kept     values.Set // by worker 0
-	overflow bool       // a worker had no room: nothing changes any more
+	program api.Program
+	way     int
+	workers []worker
+	post    post.List
+
+	// Of worker 0.
+	kept   values.Set
+	rounds waves.Rounds
+
+	// Since one of these nothing changes any more.
+	announced bool // that all is done
+	overflow  bool // a worker had no room
 }
 
 // Unfold tells what all tasks of a program come to (P3).
@@ -42,7 +50,7 @@ func New(c api.Config, p api.Program) (*Run, api.Errno) {
 	if _, e := Unfold(p); e != api.OK {
 		return nil, e
 	}
-	r := &Run{program: tree.Copy(p), workers: newWorkers(c, tree.First(p)), kept: values.Set{}}
+	r := &Run{program: tree.Copy(p), way: c.Way, workers: newWorkers(c, tree.First(p)), kept: values.Set{}}
 	return r, api.OK
 }
 
@@ -93,10 +101,19 @@ func (r *Run) Tick(w int) api.Errno {
 }
 
 // Pass lets a worker hand the token on (P9).
-func (r *Run) Pass(w int) api.Errno { return api.OK }
+func (r *Run) Pass(w int) api.Errno {
+	return r.change(r.isWorker(w), isPasser(w), r.hasToken(w), r.isIdle(w), r.passToken(w))
+}
 
 // Check lets worker 0 find out whether all is done (P9, P10).
-func (r *Run) Check() api.Errno { return api.OK }
+func (r *Run) Check() api.Errno {
+	return r.change(r.isIdle(0), r.check)
+}
 
 // Announced tells what was announced (P11).
-func (r *Run) Announced() ([]api.Value, bool, api.Errno) { return nil, false, api.OK }
+func (r *Run) Announced() ([]api.Value, bool, api.Errno) {
+	if e := r.ask(); e != api.OK || !r.announced {
+		return nil, false, e
+	}
+	return r.kept.List(), true, api.OK
+}

@@ -419,7 +419,7 @@ func play(r *Run, s *shadow, number func(below int) int, often int) (call string
 	w := number(len(s.tasks)+2) - 1
 	other := number(len(s.tasks)+2) - 1
 	i := number(len(s.way)+2) - 1
-	switch number(6 + often) {
+	switch number(8 + often) {
 	case 0:
 		return fmt.Sprintf("Work(%d)", w), r.Work(w), s.work(w)
 	case 1:
@@ -430,6 +430,10 @@ func play(r *Run, s *shadow, number func(below int) int, often int) (call string
 		return fmt.Sprintf("Twice(%d)", i), r.Twice(i), s.twice(i)
 	case 4, 5:
 		return fmt.Sprintf("Tick(%d)", w), r.Tick(w), s.tick(w)
+	case 6:
+		return fmt.Sprintf("Pass(%d)", w), r.Pass(w), s.pass(w)
+	case 7:
+		return "Check()", r.Check(), s.check()
 	}
 	return fmt.Sprintf("Deliver(%d)", i), r.Deliver(i), s.deliver(i)
 }
@@ -441,8 +445,9 @@ func TestP7ManyRuns(t *testing.T) {
 	full := 0
 	for range 500 {
 		p := anyProgram(number, 0)
-		s := newShadow(p, 3+number(api.MaxRoom-2), 2+number(4))
-		r, e := New(api.Config{Workers: len(s.tasks), Room: s.room, Way: 1 + number(2)}, p)
+		c := api.Config{Workers: 2 + number(4), Room: 3 + number(api.MaxRoom-2), Way: 1 + number(2)}
+		s := newShadow(p, c)
+		r, e := New(c, p)
 		if e != api.OK {
 			continue
 		}
@@ -457,7 +462,7 @@ func TestP7ManyRuns(t *testing.T) {
 			call, got, want := play(r, s, number, 0)
 			seen[want]++
 			if got != want || !s.same(r) {
-				t.Fatalf("%v, room %d: %s = %d, want %d, and %v", p, s.room, call, got, want, s)
+				t.Fatalf("%v, %v: %s = %d, want %d, and %v", c, p, call, got, want, s)
 			}
 			if len(s.way) == api.MaxMessages {
 				full++

@@ -28,7 +28,15 @@ func (r *Run) ask(steps ...step) api.Errno {
 
 // change takes the steps of a call that changes something.
 func (r *Run) change(steps ...step) api.Errno {
-	return r.ask(r.hadRoom, func() api.Errno { return inTurn(steps...) })
+	return r.ask(r.goesOn, r.hadRoom, func() api.Errno { return inTurn(steps...) })
+}
+
+// goesOn refuses all once all is announced.
+func (r *Run) goesOn() api.Errno {
+	if r.announced {
+		return api.ErrDone
+	}
+	return api.OK
 }
 
 // hadRoom refuses all once a worker had no room.
@@ -144,6 +152,14 @@ func (r *Run) double(i int) step {
 		r.post.Put(r.post[i])
 		return api.OK
 	}
+}
+
+// check lets worker 0, which is idle, find out in the run's way whether all is done.
+func (r *Run) check() api.Errno {
+	if r.way == api.Ring {
+		return inTurn(r.hasToken(0), r.checkToken)
+	}
+	return inTurn(r.isAnswered, r.checkRounds)
 }
 
 // sendAgain puts on its way what a worker has to send again.

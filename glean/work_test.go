@@ -321,8 +321,9 @@ func TestP5ManyRuns(t *testing.T) {
 	seen := map[api.Errno]int{}
 	for range 1500 {
 		p := anyProgram(number, 0)
-		s := newShadow(p, 1+number(api.MaxRoom), 2+number(4))
-		r, e := New(api.Config{Workers: len(s.tasks), Room: s.room, Way: 1 + number(2)}, p)
+		c := api.Config{Workers: 2 + number(4), Room: 1 + number(api.MaxRoom), Way: 1 + number(2)}
+		s := newShadow(p, c)
+		r, e := New(c, p)
 		if e != api.OK {
 			continue
 		}
@@ -336,7 +337,7 @@ func TestP5ManyRuns(t *testing.T) {
 			want := s.work(w)
 			seen[want]++
 			if got := r.Work(w); got != want || !s.same(r) {
-				t.Fatalf("%v, room %d: Work(%d) = %d, want %d, and %v", p, s.room, w, got, want, s)
+				t.Fatalf("%v, %v: Work(%d) = %d, want %d, and %v", c, p, w, got, want, s)
 			}
 		}
 	}

@@ -17,9 +17,11 @@ type worker struct {
 	out []*link.Out
 	in  []*link.In
 
-	// Work messages that it sent, and that came to it; black since one came.
+	// Work messages that it sent, and that came to it; black since one came, until it gives the token away.
 	sent, came int
 	black      bool
+
+	token *token // nil where it is not
 }
 
 // isConfig tells whether there may be a run of these numbers.
@@ -37,6 +39,9 @@ func newWorkers(c api.Config, first api.Task) []worker {
 		all[w] = worker{tasks: tasks.New(c.Room), out: newEnds(w, c.Workers, link.NewOut), in: newEnds(w, c.Workers, link.NewIn)}
 	}
 	all[0].tasks = tasks.New(c.Room, first)
+	if c.Way == api.Ring {
+		all[0].token = &token{}
+	}
 	return all
 }
 
